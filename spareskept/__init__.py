@@ -1,0 +1,1 @@
+"""Spareskept: which rows must be kept so that bounded deletions never change an answer."""

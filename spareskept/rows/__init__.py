@@ -1,0 +1,1 @@
+"""Rows, rowsets, orders and conditions."""
