@@ -14,6 +14,25 @@ INTERFACE = {
         'is_order(width, value)', 'precedes(order, first, second)', 'sorted_names(rowset, order)',
     ),
     'spareskept.rows.conditions': ('is_condition(width, value)', 'satisfies(row, condition)'),
+    'spareskept.selection.top': (
+        'top_names(rowset, order, *, count=1)', 'capped_top_names(rowset, order, *, count=1, column=0, cap=1)',
+        'group_rows(rowset, column)', 'filter_rows(rowset, condition)',
+    ),
+    'spareskept.selection.skyline': (
+        'are_margins(width, value)', 'dominates(margins, first, second)', 'dominators(rowset, margins, name)',
+        'skyline_names(rowset, margins)',
+    ),
+    'spareskept.selection.hull': (
+        'hull_names(rowset, x, y)', 'blocking_names(rowset, x, y, name, direction)',
+        'cheapest_direction(rowset, x, y, name)',
+    ),
+    'spareskept.selection.forest': (
+        'forest_names(rowset, a, b, order)', 'lighter_edges(rowset, a, b, order, name)',
+    ),
+    'spareskept.selection.cuts': (
+        'minimum_cut(rowset, a, b, order, name)', 'maximum_flow(rowset, a, b, order, name)',
+        'is_cut(rowset, a, b, order, name, value)', 'is_flow(rowset, a, b, order, name, value)',
+    ),
 }
 
 

@@ -1,0 +1,1 @@
+"""What orders, margins, hulls and forests select."""

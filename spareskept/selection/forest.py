@@ -1,0 +1,48 @@
+"""The forest of a rowset whose rows are edges."""
+
+from spareskept.checks import check_columns
+from spareskept.rows.orders import check_order, order_key, sorted_rows
+from spareskept.rows.rowsets import NAME, VALUES, find_row, names_of, rowset_width
+
+
+def check_forest(rowset, a, b, order):
+    """Raise an error if the rowset, one of its two columns or the order is not valid."""
+    width = rowset_width(rowset)
+    check_columns(width, a, b)
+    check_order(width, order)
+
+
+def nodes_of(row, a, b):
+    """Return the two nodes of the edge."""
+    return (row[VALUES][a], row[VALUES][b])
+
+
+def forest_names(rowset, a, b, order):
+    """Return the names of the edges of the forest in ascending order."""
+    check_forest(rowset, a, b, order)
+    # Two nodes are connected by the edges taken exactly if they have the same label.
+    labels = {node: node for row in rowset for node in nodes_of(row, a, b)}
+    taken = []
+    for row in sorted_rows(rowset, order):
+        start, end = nodes_of(row, a, b)
+        if labels[start] != labels[end]:
+            taken.append(row[NAME])
+            labels = replace_label(labels, labels[end], labels[start])
+    return tuple(sorted(taken))
+
+
+def replace_label(labels, old, new):
+    """Return the labels with the old one replaced by the new one everywhere."""
+    return {node: new if labels[node] == old else labels[node] for node in labels}
+
+
+def lighter_edges(rowset, a, b, order, name):
+    """Return the names of all lighter edges in ascending order."""
+    check_forest(rowset, a, b, order)
+    return names_of(lighter_rows(rowset, order, find_row(rowset, name)))
+
+
+def lighter_rows(rowset, order, edge):
+    """Return a list of the rows that are lighter than the edge."""
+    key = order_key(edge, order)
+    return [row for row in rowset if order_key(row, order) < key]
