@@ -44,10 +44,11 @@ def find_entries(arcs, rooms, start):
     return entries
 
 
-def trace_way(arcs, entries, goal):
-    """Return the numbers of the arcs on the way to the goal, in order."""
+def find_way(arcs, rooms, start, goal):
+    """Return the numbers of the arcs on a shortest way to the goal, in order, or [] if it is out of reach."""
+    entries = find_entries(arcs, rooms, start)
     way = []
-    number = entries[goal]
+    number = entries.get(goal, None)
     while number is not None:
         way.append(number)
         number = entries[arcs[number][0]]
@@ -57,15 +58,14 @@ def trace_way(arcs, entries, goal):
 def fill_network(arcs, rooms, start, goal):
     """Return the rooms that are left when as much as possible passes from the start to the goal."""
     left = list(rooms)
-    entries = find_entries(arcs, left, start)
-    while goal in entries:
-        way = trace_way(arcs, entries, goal)
+    way = find_way(arcs, left, start, goal)
+    while way:
         amount = min([left[number] for number in way])
         for number in way:
             left[number] -= amount
             # What passes one way can be sent back the other way.
             left[number ^ 1] += amount
-        entries = find_entries(arcs, left, start)
+        way = find_way(arcs, left, start, goal)
     return left
 
 
@@ -73,12 +73,11 @@ def split_flow(arcs, flows, start, goal):
     """Return pairs (amount, names), one for each of the ways into which the flow along the arcs is split."""
     left = list(flows)
     pairs = []
-    entries = find_entries(arcs, left, start)
-    while goal in entries:
-        way = trace_way(arcs, entries, goal)
+    way = find_way(arcs, left, start, goal)
+    while way:
         amount = min([left[number] for number in way])
         for number in way:
             left[number] -= amount
         pairs.append((amount, tuple([arcs[number][2] for number in way])))
-        entries = find_entries(arcs, left, start)
+        way = find_way(arcs, left, start, goal)
     return tuple(pairs)
