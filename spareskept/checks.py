@@ -1,6 +1,6 @@
 """Checks of plain values that several modules share."""
 
-from spareskept.errors import InvalidNumber
+from spareskept.errors import InvalidNumber, UnknownName
 
 DIRECTIONS = ("asc", "desc")
 
@@ -47,3 +47,22 @@ def have_distinct_columns(parts):
 def is_ascending(names):
     """Return whether the names are in strictly ascending order."""
     return all([first < second for first, second in zip(names, names[1:])])
+
+
+def are_among(known, value):
+    """Return whether the value is a tuple of known names."""
+    return isinstance(value, tuple) and all([name in known for name in value])
+
+
+def are_ascending_among(known, value):
+    """Return whether the value is an ascending tuple of known names."""
+    return are_among(known, value) and is_ascending(value)
+
+
+def check_among(known, names):
+    """Raise UnknownName if the value is not a tuple of known names."""
+    if not isinstance(names, tuple):
+        raise UnknownName(names)
+    for name in names:
+        if name not in known:
+            raise UnknownName(name)

@@ -33,6 +33,15 @@ INTERFACE = {
         'minimum_cut(rowset, a, b, order, name)', 'maximum_flow(rowset, a, b, order, name)',
         'is_cut(rowset, a, b, order, name, value)', 'is_flow(rowset, a, b, order, name, value)',
     ),
+    'spareskept.tables.tables': (
+        'is_table(value)', 'table_choice(table, names)', 'find_violation(table)', 'is_violation(table, value)',
+        'selectable_names(table)',
+    ),
+    'spareskept.tables.orderings': (
+        'find_orderings(table)', 'are_orderings(table, value)', 'table_from_orderings(names, selectable, orderings)',
+    ),
+    'spareskept.queries.forms': ('is_query(width, value)',),
+    'spareskept.queries.select': ('selected_names(rowset, query, *, deleted=())',),
 }
 
 

@@ -106,9 +106,14 @@ def cost_of(rows):
     return sum(row[1] for row in rows)
 
 
+def random_source(*parts):
+    """Return a source of random numbers that depends on the parts only."""
+    return random.Random(' '.join(map(str, parts)))
+
+
 def random_rowset(seed, count, width, *, low=0, high=3, cost=5):
     """Return a rowset that depends on the arguments only."""
-    source = random.Random(f'{seed} {count} {width}')
+    source = random_source(seed, count, width)
     return tuple(
         (name_of(number), source.randint(1, cost), tuple(source.randint(low, high) for _ in range(width)), 1)
         for number in range(count))

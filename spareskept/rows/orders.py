@@ -42,6 +42,12 @@ def precedes(order, first, second):
     return order_key(first, order) < order_key(second, order)
 
 
+def preceding_rows(rowset, order, row):
+    """Return a list of the rows of the rowset that precede the row."""
+    key = order_key(row, order)
+    return [other for other in rowset if order_key(other, order) < key]
+
+
 def sorted_rows(rowset, order):
     """Return a list of the rows, each before the rows that it precedes."""
     return sorted(rowset, key=lambda row: order_key(row, order))

@@ -1,7 +1,7 @@
 """Rows and rowsets."""
 
-from spareskept.checks import check_between, is_ascending, is_between, is_tuple_between
-from spareskept.errors import InvalidRowset, NameConflict, TooMany, UnknownName
+from spareskept.checks import check_among, check_between, is_ascending, is_between, is_tuple_between
+from spareskept.errors import InvalidRowset, NameConflict, TooMany
 
 MAX_ROWS = 60
 MAX_WIDTH = 4
@@ -71,6 +71,16 @@ def names_of(rows):
     return tuple([row[NAME] for row in rows])
 
 
+def sorted_names_of(rows):
+    """Return the names of the rows in ascending order."""
+    return tuple(sorted(names_of(rows)))
+
+
+def cost_of(rows):
+    """Return the sum of the costs of the rows."""
+    return sum([row[COST] for row in rows])
+
+
 def check_rowset(rowset):
     """Raise InvalidRowset if the value is not a rowset."""
     if not is_rowset(rowset):
@@ -84,12 +94,7 @@ def check_width(width):
 
 def check_names(rowset, names):
     """Raise UnknownName if the value is not a tuple of names of rows of the rowset."""
-    if not isinstance(names, tuple):
-        raise UnknownName(names)
-    known = names_of(rowset)
-    for name in names:
-        if name not in known:
-            raise UnknownName(name)
+    check_among(names_of(rowset), names)
 
 
 def make_rowset(rows):
@@ -138,7 +143,7 @@ def keep_rows(rowset, names):
 
 def total_cost(rowset, names):
     """Return the sum of the costs of the named rows, each counted once."""
-    return sum([row[COST] for row in keep_rows(rowset, names)])
+    return cost_of(keep_rows(rowset, names))
 
 
 def union_rowsets(rowsets):

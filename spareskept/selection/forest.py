@@ -1,8 +1,8 @@
 """The forest of a rowset whose rows are edges."""
 
 from spareskept.checks import check_columns
-from spareskept.rows.orders import check_order, order_key, sorted_rows
-from spareskept.rows.rowsets import NAME, VALUES, find_row, names_of, rowset_width
+from spareskept.rows.orders import check_order, preceding_rows, sorted_rows
+from spareskept.rows.rowsets import VALUES, find_row, names_of, rowset_width, sorted_names_of
 
 
 def check_forest(rowset, a, b, order):
@@ -20,15 +20,20 @@ def nodes_of(row, a, b):
 def forest_names(rowset, a, b, order):
     """Return the names of the edges of the forest in ascending order."""
     check_forest(rowset, a, b, order)
+    return sorted_names_of(forest_rows(rowset, a, b, order))
+
+
+def forest_rows(rowset, a, b, order):
+    """Return a list of the edges of the forest."""
     # Two nodes are connected by the edges taken exactly if they have the same label.
     labels = {node: node for row in rowset for node in nodes_of(row, a, b)}
     taken = []
     for row in sorted_rows(rowset, order):
         start, end = nodes_of(row, a, b)
         if labels[start] != labels[end]:
-            taken.append(row[NAME])
+            taken.append(row)
             labels = replace_label(labels, labels[end], labels[start])
-    return tuple(sorted(taken))
+    return taken
 
 
 def replace_label(labels, old, new):
@@ -39,10 +44,4 @@ def replace_label(labels, old, new):
 def lighter_edges(rowset, a, b, order, name):
     """Return the names of all lighter edges in ascending order."""
     check_forest(rowset, a, b, order)
-    return names_of(lighter_rows(rowset, order, find_row(rowset, name)))
-
-
-def lighter_rows(rowset, order, edge):
-    """Return a list of the rows that are lighter than the edge."""
-    key = order_key(edge, order)
-    return [row for row in rowset if order_key(row, order) < key]
+    return names_of(preceding_rows(rowset, order, find_row(rowset, name)))

@@ -2,7 +2,8 @@
 
 from spareskept.checks import check_columns, is_between, is_tuple_between
 from spareskept.errors import InvalidNumber
-from spareskept.rows.rowsets import COST, NAME, VALUES, find_row, names_of, rowset_width
+from spareskept.rows.rowsets import COST, NAME, VALUES
+from spareskept.rows.rowsets import cost_of, find_row, names_of, rowset_width, sorted_names_of
 
 # A direction has at most forty digits.
 MAX_PART = 10 ** 40 - 1
@@ -32,10 +33,15 @@ def point_of(row, x, y):
 def hull_names(rowset, x, y):
     """Return the names of the hull rows in ascending order."""
     check_hull(rowset, x, y)
-    first_names = {}
+    return sorted_names_of(hull_rows(rowset, x, y))
+
+
+def hull_rows(rowset, x, y):
+    """Return a list of the hull rows."""
+    first_rows = {}
     for row in rowset:
-        first_names.setdefault(point_of(row, x, y), row[NAME])
-    return tuple(sorted([first_names[point] for point in corners(sorted(first_names))]))
+        first_rows.setdefault(point_of(row, x, y), row)
+    return [first_rows[point] for point in corners(sorted(first_rows))]
 
 
 def corners(points):
@@ -69,7 +75,12 @@ def blocking_names(rowset, x, y, name, direction):
     row = find_row(rowset, name)
     if not is_direction(direction):
         raise InvalidNumber(direction)
-    return names_of([other for other in rowset if blocks(other, row, x, y, direction)])
+    return names_of(blocking_rows(rowset, x, y, row, direction))
+
+
+def blocking_rows(rowset, x, y, row, direction):
+    """Return a list of the rows that block the row in the direction."""
+    return [other for other in rowset if blocks(other, row, x, y, direction)]
 
 
 def blocks(other, row, x, y, direction):
@@ -88,20 +99,28 @@ def step_between(row, other, x, y):
 def cheapest_direction(rowset, x, y, name):
     """Return the total cost of the blocking rows in a cheapest direction, and that direction."""
     check_hull(rowset, x, y)
-    row = find_row(rowset, name)
-    directions = tilted_directions([step_between(row, other, x, y) for other in rowset])
-    return min([(blocking_cost(rowset, x, y, row, direction), direction) for direction in directions])
+    return best_direction(rowset, x, y, find_row(rowset, name))
 
 
-def blocking_cost(rowset, x, y, row, direction):
-    """Return the total cost of the rows that block the row in the direction."""
-    return sum([other[COST] for other in rowset if blocks(other, row, x, y, direction)])
+def best_direction(rowset, x, y, row):
+    """Return the total cost of the blocking rows in a cheapest direction of the row, and that direction."""
+    twins = [other for other in rowset if point_of(other, x, y) == point_of(row, x, y)]
+    # These block in every direction.
+    least = cost_of([other for other in twins if other[NAME] < row[NAME]])
+    steps = [(step_between(row, other, x, y), other[COST]) for other in rowset if other not in twins]
+    directions = tilted_directions([step for step, _ in steps])
+    return min([(least + cost_ahead(steps, direction), direction) for direction in directions])
+
+
+def cost_ahead(steps, direction):
+    """Return the total cost of the steps, pairs (step, cost), that do not lead back against the direction."""
+    u, v = direction
+    return sum([cost for (across, up), cost in steps if u * across + v * up >= 0])
 
 
 def tilted_directions(steps):
-    """Return directions of which one is cheapest for a row from which these steps lead to all rows."""
+    """Return directions of which one is cheapest for a row from which these steps lead to the other points."""
     # While a direction turns to the left, a row at another point stops blocking exactly when the
     # direction passes the right angle on the left of the step to that point. So a cheapest direction
     # is found right behind such an angle, or anywhere if there is no other point.
-    others = [step for step in steps if step != (0, 0)]
-    return [(1, 0)] + [(-up * TILT - across, across * TILT - up) for across, up in others]
+    return [(1, 0)] + [(-up * TILT - across, across * TILT - up) for across, up in steps]

@@ -61,4 +61,9 @@ def better_rows(rowset, margins, row):
 def skyline_names(rowset, margins):
     """Return the names of the skyline in ascending order."""
     check_margins(rowset_width(rowset), margins)
-    return names_of([row for row in rowset if not better_rows(rowset, margins, row)])
+    return names_of(skyline_rows(rowset, margins))
+
+
+def skyline_rows(rowset, margins):
+    """Return a list of the rows that no row of the rowset dominates."""
+    return [row for row in rowset if not better_rows(rowset, margins, row)]

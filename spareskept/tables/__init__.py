@@ -1,0 +1,1 @@
+"""Choice tables and their orderings."""
