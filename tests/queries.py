@@ -4,7 +4,7 @@ from tests.test_forest import connected
 from tests.test_hull import is_inside
 from tests.test_skyline import dominates_reference
 from tests.test_tables import ordered, set_of
-from tests.values import name_of
+from tests.values import cost_of, name_of, random_rowset, subsets
 
 NAMES = tuple(name_of(number) for number in range(6))
 
@@ -110,16 +110,16 @@ TABLES = (('table', BLOCK), ('table', FEW), ('table', NOBODY))
 LEAVES = TOPS + CAPPED + SKYLINES + HULLS + FORESTS + TABLES
 
 SMALL = ('le', 0, 1)
-HIGH = ('and', (('ge', 0, 2), ('not', ('eq', 1, 0))))
+MOST = ('or', (('ge', 0, 1), ('not', ('eq', 1, 0))))
 MIXED = ('union', (TOPS[0], SKYLINES[1], FORESTS[1], TABLES[1]))
 NESTED = (
-    ('where', SMALL, TOPS[1]), ('where', HIGH, CAPPED[1]), ('where', SMALL, HULLS[0]), ('where', HIGH, FORESTS[0]),
-    ('where', SMALL, SKYLINES[0]), ('where', HIGH, TABLES[0]), ('where', ('ge', 0, 9), TOPS[3]),
+    ('where', SMALL, TOPS[1]), ('where', MOST, CAPPED[1]), ('where', SMALL, HULLS[0]), ('where', MOST, FORESTS[0]),
+    ('where', SMALL, SKYLINES[0]), ('where', MOST, TABLES[0]), ('where', ('ge', 0, 9), TOPS[3]),
     ('group', 0, TOPS[0]), ('group', 1, CAPPED[0]), ('group', 1, SKYLINES[2]), ('group', 0, HULLS[0]),
     ('group', 1, FORESTS[1]), ('group', 0, TABLES[0]), ('group', 1, ('where', SMALL, TOPS[2])),
     ('union', (TOPS[1], TOPS[1])), ('union', (SKYLINES[0], HULLS[1], CAPPED[2])), MIXED,
     ('union', (TABLES[2], ('where', ('ge', 0, 9), TOPS[0]))), ('union', (FORESTS[0], FORESTS[1])),
-    ('where', HIGH, ('group', 0, MIXED)), ('group', 0, ('union', (('where', SMALL, CAPPED[4]), SKYLINES[3]))),
+    ('where', MOST, ('group', 0, MIXED)), ('group', 0, ('union', (('where', SMALL, CAPPED[4]), SKYLINES[0]))),
     ('union', (('group', 1, ('where', SMALL, FORESTS[2])), ('union', (TABLES[0], ('group', 0, HULLS[0]))))),
 )
 QUERIES = LEAVES + NESTED
@@ -133,3 +133,29 @@ LARGE = (
     ('capped', ((1, 'desc'),), 9, 0, 1), ('skyline', ((0, 'desc', 0), (1, 'asc', 2))), ('hull', 0, 1),
     ('forest', 0, 1, ((1, 'desc'),)), ('table', BLOCK), MANY,
 )
+
+
+def plain_selections(rowset, query):
+    """Return a dict from each tuple of kept rows to what the query selects from them."""
+    return {kept: plain_names(kept, query) for kept in subsets(rowset)}
+
+
+def plain_depths(rowset, query):
+    """Return a dict from each name to the depth of its row, found by trying every set of other rows."""
+    whole = cost_of(rowset)
+    depths = dict.fromkeys([row[0] for row in rowset])
+    for kept, names in plain_selections(rowset, query).items():
+        cost = whole - cost_of(kept)
+        for name in names:
+            if depths[name] is None or cost < depths[name]:
+                depths[name] = cost
+    return depths
+
+
+def small_rowsets(query, count):
+    """Return a few rowsets with so many rows: equal, small and large costs, many equal values and few."""
+    seeds = 1 + QUERIES.index(query)
+    return (
+        random_rowset(seeds, count, 2, high=1, cost=1), random_rowset(seeds, count, 2, high=2, cost=3),
+        random_rowset(seeds, count, 2, high=3, cost=10 ** 6),
+    )

@@ -41,7 +41,7 @@ class ExamplesTest(unittest.TestCase):
 
     def test_examples(self):
         examples = read_examples()
-        self.assertEqual(len(examples), 45)
+        self.assertEqual(len(examples), 57)
         for code, expected in examples:
             with self.subTest(code=code):
                 self.assertTrue(code and expected)

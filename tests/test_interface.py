@@ -42,6 +42,19 @@ INTERFACE = {
     ),
     'spareskept.queries.forms': ('is_query(width, value)',),
     'spareskept.queries.select': ('selected_names(rowset, query, *, deleted=())',),
+    'spareskept.queries.choices': ('choice_table(rowset, query, *, inner=None)',),
+    'spareskept.depths.depths': (
+        'row_depth(rowset, query, name)', 'row_depths(rowset, query)', 'cheapest_exposure(rowset, query, name)',
+        'is_exposure(rowset, query, name, value)',
+    ),
+    'spareskept.depths.kernels': ('kernel_rows(rowset, query, *, budget=0)',),
+    'spareskept.certificates.barriers': (
+        'find_barrier(rowset, query, name, *, budget=0)', 'is_barrier(rowset, query, name, value, *, budget=0)',
+    ),
+    'spareskept.certificates.certificates': (
+        'depth_certificate(rowset, query, name, *, budget=0)',
+        'is_depth_certificate(rowset, query, name, value, *, budget=0)',
+    ),
 }
 
 

@@ -81,6 +81,21 @@ def cost_of(rows):
     return sum([row[COST] for row in rows])
 
 
+def by_falling_cost(rows):
+    """Return a list of the rows, the most expensive ones first."""
+    return sorted(rows, key=lambda row: -row[COST])
+
+
+def rows_named(rowset, names):
+    """Return a tuple of those rows whose names are among the names."""
+    return tuple([row for row in rowset if row[NAME] in names])
+
+
+def rows_not_named(rowset, names):
+    """Return a tuple of those rows whose names are not among the names."""
+    return tuple([row for row in rowset if row[NAME] not in names])
+
+
 def check_rowset(rowset):
     """Raise InvalidRowset if the value is not a rowset."""
     if not is_rowset(rowset):
@@ -131,14 +146,14 @@ def remove_rows(rowset, names):
     """Return the rowset without the named rows."""
     check_rowset(rowset)
     check_names(rowset, names)
-    return tuple([row for row in rowset if row[NAME] not in names])
+    return rows_not_named(rowset, names)
 
 
 def keep_rows(rowset, names):
     """Return the rowset of only the named rows."""
     check_rowset(rowset)
     check_names(rowset, names)
-    return tuple([row for row in rowset if row[NAME] in names])
+    return rows_named(rowset, names)
 
 
 def total_cost(rowset, names):

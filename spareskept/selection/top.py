@@ -72,6 +72,11 @@ def groups_of(rowset, column):
     return {value: tuple(groups[value]) for value in sorted(groups)}
 
 
+def group_of(rowset, column, row):
+    """Return a tuple of the rows with the same value in the column as the row."""
+    return tuple([other for other in rowset if other[VALUES][column] == row[VALUES][column]])
+
+
 def filter_rows(rowset, condition):
     """Return the rowset of the rows that satisfy the condition."""
     check_condition(rowset_width(rowset), condition)

@@ -1,0 +1,1 @@
+"""Certificates of depth."""

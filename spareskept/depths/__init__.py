@@ -1,0 +1,1 @@
+"""Depths of rows, and the kernels that follow from them."""
