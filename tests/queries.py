@@ -132,6 +132,8 @@ LARGE = (
     ('top', ((1, 'asc'), (0, 'desc')), 9), ('capped', ((0, 'asc'), (1, 'desc')), 9, 1, 9), ('capped', (), 9, 0, 9),
     ('capped', ((1, 'desc'),), 9, 0, 1), ('skyline', ((0, 'desc', 0), (1, 'asc', 2))), ('hull', 0, 1),
     ('forest', 0, 1, ((1, 'desc'),)), ('table', BLOCK), MANY,
+    ('where', ('not', ('eq', 0, 2)), ('capped', ((0, 'desc'),), 9, 1, 9)),
+    ('group', 1, ('capped', ((0, 'asc'),), 9, 0, 1)),
 )
 
 

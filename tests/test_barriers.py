@@ -5,10 +5,10 @@ import unittest
 from spareskept.certificates.barriers import find_barrier, is_barrier
 from spareskept.depths.depths import row_depth
 from spareskept.errors import InvalidNumber, InvalidQuery
-from tests.queries import BLOCK, CAPPED, FORESTS, HULLS, LEAVES, NOBODY, QUERIES, SKYLINES, TABLES, TOPS
+from tests.queries import BLOCK, LEAVES, NOBODY, QUERIES, SKYLINES
 from tests.queries import plain_condition, plain_depths, plain_names, small_rowsets
 from tests.test_cuts import BRIDGE, is_flow_reference
-from tests.test_depths import TARGET_CASES, rows_of
+from tests.test_depths import TARGET_CASES
 from tests.values import ODD_VALUES, Q, R, S
 from tests.values import check_bool, check_errors, check_raises, check_steady, holding, numbers_outside, random_rowset
 from tests.values import replaced, subsets
@@ -148,7 +148,8 @@ class RowsTest(unittest.TestCase):
             self.assertIs(check_steady(self, is_barrier, S, Q, 'c', value, budget=2), False, value)
 
     def test_any_value(self):
-        for query in (Q, ('capped', (), 1, 0, 1), ('skyline', ((0, 'asc', 0),)), ('table', (('a', 'b'), (('a',), ('b',), ('a',))))):
+        for query in (Q, ('capped', (), 1, 0, 1), ('skyline', ((0, 'asc', 0),)),
+                      ('table', (('a', 'b'), (('a',), ('b',), ('a',))))):
             for value in ODD_VALUES:
                 for word in ('rows', 'flow', 'all', 'never', 'exposed'):
                     for whole in (value, (word, value), (word, (value,)), (value, ('a', 'b'))):
@@ -159,7 +160,8 @@ class RowsTest(unittest.TestCase):
 
 class NeverTest(unittest.TestCase):
     CASES = (
-        (S, ('table', NOBODY), 'a'), (S, ('table', BLOCK), 'a'), (BRIDGE, FOREST, 'f'), (S, ('where', ('ge', 0, 2), Q), 'a'),
+        (S, ('table', NOBODY), 'a'), (S, ('table', BLOCK), 'a'), (BRIDGE, FOREST, 'f'),
+        (S, ('where', ('ge', 0, 2), Q), 'a'),
         (S, ('where', ('le', 0, 2), ('table', NOBODY)), 'a'), (BRIDGE, ('group', 0, FOREST), 'f'),
         (S, ('group', 0, ('where', ('ge', 0, 2), Q)), 'a'),
         (S, ('union', (('table', NOBODY), ('where', ('ge', 0, 2), Q), ('table', BLOCK))), 'a'),
@@ -245,7 +247,8 @@ class NestedTest(unittest.TestCase):
             self.assertIs(is_barrier(self.ROWS, query, name, value, budget=budget), False, value)
 
     def test_where(self):
-        self.check(('where', ('ge', 0, 1), self.FIRST), 'd', 3, [('rows', ('b', 'c')), ('rows', ('b', 'c', 'e')), ('rows', ('c',))], [
+        self.check(('where', ('ge', 0, 1), self.FIRST), 'd', 3,
+                   [('rows', ('b', 'c')), ('rows', ('b', 'c', 'e')), ('rows', ('c',))], [
             ('rows', ('a', 'b', 'c')), ('rows', ('a', 'c')), ('rows', ('b',)), ('rows', ()), ('never',)])
 
     def test_group(self):
@@ -256,7 +259,8 @@ class NestedTest(unittest.TestCase):
         query = ('union', (self.FIRST, ('group', 1, self.FIRST), ('where', ('le', 0, 2), self.FIRST)))
         one, two, never = ('rows', ('a', 'b', 'c')), ('rows', ('a', 'b')), ('never',)
         self.check(query, 'd', 4, [('all', (one, two, never)), ('all', (('rows', ('a', 'c', 'e')), two, never))], [
-            ('all', (one, two)), ('all', (one, two, never, never)), ('all', (two, one, never)), ('all', (never, two, one)),
+            ('all', (one, two)), ('all', (one, two, never, never)), ('all', (two, one, never)),
+            ('all', (never, two, one)),
             ('all', (one, never, never)), ('all', (one, ('rows', ('b',)), never)), ('all', [one, two, never]),
             ['all', (one, two, never)], ('all', one, two, never), (one, two, never), ('rows', (one, two, never)),
             ('all', (one, two, one)), ('all', (one, one, never)), ('all', (one, list(two), never)), ('all', ()),

@@ -116,17 +116,22 @@ class IsDepthCertificateTest(unittest.TestCase):
 
     def test_values_one_step_wrong(self):
         self.assertIs(is_depth_certificate(S, Q, 'c', ('exposed', ('a', 'b')), budget=3), True)
-        for value in (('exposed', ('b', 'a')), ('exposed', ('a',)), ('exposed', ('a', 'b', 'c')), ('exposed', ('a', 'b', 'b')),
+        for value in (('exposed', ('b', 'a')), ('exposed', ('a',)), ('exposed', ('a', 'b', 'c')),
+                      ('exposed', ('a', 'b', 'b')),
                       ('exposed', ('a', 'b', 'd')), ('exposed', ['a', 'b']), ['exposed', ('a', 'b')], ('exposed',),
                       ('exposed', ('a', 'b'), ()), ('hidden', ('a', 'b')), ('hidden', ('rows', ('a', 'b'))), ('a', 'b'),
                       ('Exposed', ('a', 'b')), ('exposed', None), ('exposed', 'ab'), ('exposed', ('a', None)),
-                      ('exposed', ('a', ['b'])), ('exposed', ()), ('rows', ('a', 'b')), (None, ('a', 'b')), ('exposed', 3),
-                      (['exposed'], ('a', 'b')), {'exposed': ('a', 'b')}, None, (), 'exposed', ('exposed', {'a': 1, 'b': 1})):
+                      ('exposed', ('a', ['b'])), ('exposed', ()), ('rows', ('a', 'b')), (None, ('a', 'b')),
+                      ('exposed', 3),
+                      (['exposed'], ('a', 'b')), {'exposed': ('a', 'b')}, None, (), 'exposed',
+                      ('exposed', {'a': 1, 'b': 1})):
             self.assertIs(check_steady(self, is_depth_certificate, S, Q, 'c', value, budget=3), False, value)
         self.assertIs(is_depth_certificate(S, Q, 'c', ('hidden', ('rows', ('a', 'b'))), budget=2), True)
         for value in (('exposed', ('a', 'b')), ('hidden', ('rows', ('a',))), ('hidden', ('rows', ('a', 'b', 'c'))),
-                      ('hidden', ['rows', ('a', 'b')]), ['hidden', ('rows', ('a', 'b'))], ('hidden',), ('rows', ('a', 'b')),
-                      ('hidden', ('rows', ('a', 'b')), ()), ('hidden', 'rows', ('a', 'b')), ('hide', ('rows', ('a', 'b'))),
+                      ('hidden', ['rows', ('a', 'b')]), ['hidden', ('rows', ('a', 'b'))], ('hidden',),
+                      ('rows', ('a', 'b')),
+                      ('hidden', ('rows', ('a', 'b')), ()), ('hidden', 'rows', ('a', 'b')),
+                      ('hide', ('rows', ('a', 'b'))),
                       ('hidden', ('never',)), ('hidden', None), ('hidden', ()), ('exposed', ('rows', ('a', 'b')))):
             self.assertIs(is_depth_certificate(S, Q, 'c', value, budget=2), False, value)
 

@@ -196,7 +196,8 @@ class IsExposureTest(unittest.TestCase):
 
     def test_not_deletion_sets(self):
         self.assertIs(is_exposure(S, Q, 'c', ('a', 'b')), True)
-        for value in (('b', 'a'), ('a', 'a', 'b'), ('a', 'b', 'b'), ('a', 'b', 'c'), ('c',), ('a', 'b', 'd'), ['a', 'b'],
+        for value in (('b', 'a'), ('a', 'a', 'b'), ('a', 'b', 'b'), ('a', 'b', 'c'), ('c',), ('a', 'b', 'd'),
+                      ['a', 'b'],
                       ('a', 'b', ''), ('a', 'b', None), ('a', ['b']), ('a', ('b',)), {'a': 1, 'b': 1}, 'ab', ('ab',),
                       (('a', 'b'),), None, 1, True, (), ('a',), ('b',), (1, 2)):
             self.assertIs(check_steady(self, is_exposure, S, Q, 'c', value), False, value)

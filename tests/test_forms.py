@@ -7,7 +7,8 @@ from spareskept.queries.forms import MAX_NESTING, is_query
 from tests.queries import BLOCK, LEAVES, QUERIES
 from tests.test_tables import NOT_TABLES, SECOND, SECOND_ALONE, FIRST_ALONE, everything
 from tests.values import NOT_CONDITIONS, NOT_INTEGERS, NOT_MARGINS, NOT_ORDERS, ODD_VALUES, Q, T
-from tests.values import check_bool, check_errors, check_raises, check_steady, holding, nested, numbers_outside, replaced
+from tests.values import check_bool, check_errors, check_raises, check_steady, holding, nested, numbers_outside
+from tests.values import replaced
 
 TOP = ('top', (), 1)
 WRAPS = (

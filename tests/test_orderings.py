@@ -13,17 +13,21 @@ from tests.values import cases, check_bool, check_errors, check_steady, random_s
 
 NOTHING = (('a', 'b'), ((), (), ()))
 NOT_NAMES = (
-    None, 1, True, 'ab', (), [], ['a', 'b'], {}, ('b', 'a'), ('a', 'a'), ('a', 'B'), ('a', 1), ('a', ''), ('a', 'b', None),
+    None, 1, True, 'ab', (), [], ['a', 'b'], {}, ('b', 'a'), ('a', 'a'), ('a', 'B'), ('a', 1), ('a', ''),
+    ('a', 'b', None),
     tuple('abcdefg'), (('a', 'b'),), ('a', 'abcdefghi'),
 )
 NOT_SELECTABLE = (
-    None, 1, True, 'ab', 'a', [], ['a', 'b'], {}, ('b', 'a'), ('a', 'a'), ('a', 'b', 'b'), ('a', 'x'), ('a', 1), ('a', None),
+    None, 1, True, 'ab', 'a', [], ['a', 'b'], {}, ('b', 'a'), ('a', 'a'), ('a', 'b', 'b'), ('a', 'x'), ('a', 1),
+    ('a', None),
     (('a', 'b'),), (['a'],),
 )
 NOT_ORDERINGS = (
     None, 1, True, 'ab', (), [], [('b', 'a')], {}, {('b', 'a'): 1}, ((),), (('a',),), (('b', 'a'), ('a',)), ('b', 'a'),
-    (('b', 'a'), ('b', 'a')), (('a', 'b'), ('b', 'a'), ('a', 'b')), (('a', 'b', 'a'),), (('a', 'a'),), (('a', 'b', 'c'),),
-    (('a', 'c'),), (['b', 'a'],), (('b', 'a'), ['a', 'b']), ('ba',), (('a', None),), (('a', ['b']),), (('b', 'a'), None),
+    (('b', 'a'), ('b', 'a')), (('a', 'b'), ('b', 'a'), ('a', 'b')), (('a', 'b', 'a'),), (('a', 'a'),),
+    (('a', 'b', 'c'),),
+    (('a', 'c'),), (['b', 'a'],), (('b', 'a'), ['a', 'b']), ('ba',), (('a', None),), (('a', ['b']),),
+    (('b', 'a'), None),
     (('b', 'a'), ()), (1, 2), ((1, 2),),
 )
 
@@ -101,7 +105,8 @@ class AreOrderingsTest(unittest.TestCase):
         self.assertIs(are_orderings(table, good[::-1]), True)
         self.assertIs(are_orderings(table, good + (('c', 'b', 'a'),)), True)
         self.assertIs(are_orderings(table, good + (('a', 'b', 'c'),)), False)
-        for value in (good[:1], good[1:], good + good[:1], (), (('c', 'a'), ('b', 'a')), (('c', 'a', 'b', 'c'), good[1]),
+        for value in (good[:1], good[1:], good + good[:1], (), (('c', 'a'), ('b', 'a')),
+                      (('c', 'a', 'b', 'c'), good[1]),
                       (('c', 'a', 'a'), good[1]), (('c', 'a', 'x'), good[1]), (good[0], ('b', 'c', 'a')), list(good),
                       (list(good[0]), good[1]), ('cab', 'bac'), (good, ), (good[0], None), good + ((),), good[0],
                       (('c', 'a', None), good[1]), (('c', ['a'], 'b'), good[1]), {good[0]: 1, good[1]: 1}):

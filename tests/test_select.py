@@ -43,7 +43,8 @@ class SelectedTest(unittest.TestCase):
             self.assertEqual(len(selected_names(SIXTY, query)), len(set(selected_names(SIXTY, query))))
         self.assertEqual(selected_names(SIXTY, TOPS[0]), ('aa',))
         self.assertEqual(selected_names(SIXTY, ('group', 0, Q)), tuple(row[0] for row in SIXTY))
-        self.assertEqual(selected_names(SIXTY, ('capped', ((1, 'desc'),), 9, 0, 1)), tuple(row[0] for row in SIXTY[51:]))
+        self.assertEqual(selected_names(SIXTY, ('capped', ((1, 'desc'),), 9, 0, 1)),
+                         tuple(row[0] for row in SIXTY[51:]))
 
     def test_the_empty_rowset(self):
         for query in QUERIES + (('hull', 3, 2), ('group', 3, ('forest', 2, 3, ((1, 'asc'),)))):

@@ -37,7 +37,8 @@ def everything(names):
 def ordered(names, orderings):
     """Return the table with these orderings in the words of 7.3."""
     def choose(chosen):
-        return {[name for name in ordering if name in chosen][0] for ordering in orderings if set(ordering) & set(chosen)}
+        members = [[name for name in ordering if name in chosen] for ordering in orderings]
+        return {names[0] for names in members if names}
     return table_of(names, choose)
 
 
