@@ -48,9 +48,8 @@ def expose_listed(rowset, query, row):
         return None
     others = [other for other in rowset if other[NAME] in table[0] and other != row]
     sets = [members_of(others, number) for number in range(1 << len(others))]
-    remaining = [kept for kept in sets if name in choice_of(table, names_of(kept) + (name,))]
-    most = max(remaining, key=cost_of)
-    return [other for other in others if other not in most]
+    kept = max([part for part in sets if name in choice_of(table, names_of(part) + (name,))], key=cost_of)
+    return [other for other in others if other not in kept]
 
 
 EXPOSURES = {
