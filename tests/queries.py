@@ -161,3 +161,32 @@ def small_rowsets(query, count):
         random_rowset(seeds, count, 2, high=1, cost=1), random_rowset(seeds, count, 2, high=2, cost=3),
         random_rowset(seeds, count, 2, high=3, cost=10 ** 6),
     )
+
+
+def expiring_rowsets(query, count):
+    """Return a few rowsets with so many rows that expire at different times, some of them at one time."""
+    seeds = 1 + QUERIES.index(query)
+    return (
+        random_rowset(seeds, count, 2, high=1, cost=2, expiry=3),
+        random_rowset(seeds, count, 2, high=2, cost=3, expiry=6),
+        random_rowset(seeds, count, 2, high=3, cost=10 ** 6, expiry=10 ** 9),
+    )
+
+
+def live_at(rowset, now):
+    """Return the rows of the rowset that are live at the time."""
+    return tuple(row for row in rowset if row[3] > now)
+
+
+def times_of(rowset):
+    """Return times at which other rows are live than at any other one, with some just before and after them."""
+    return sorted({0, 10 ** 9} | {time for row in rowset for time in (row[3] - 1, row[3])})
+
+
+def plain_durable(rowset, query, budget):
+    """Return the rows that are selected at some time after some deletion within the budget."""
+    found = set()
+    for now in times_of(rowset):
+        depths = plain_depths(live_at(rowset, now), query)
+        found.update(name for name, depth in depths.items() if depth is not None and depth <= budget)
+    return tuple(row for row in rowset if row[0] in found)

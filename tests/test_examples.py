@@ -22,33 +22,34 @@ def read_examples():
     return examples
 
 
-def run_example(code):
-    """Run the lines and return the value of the last one."""
+def prepare(code):
+    """Run all lines but the last one; return what is known then."""
     known = dict(START)
     for line in code[:-1]:
         exec(line, known)
-    return eval(code[-1], known)
+    return known
 
 
 class ExamplesTest(unittest.TestCase):
     def check_error(self, code, expected):
         kind, attribute, value = re.fullmatch(r'raises (\w+)(?:\((\w+)=(.*)\))?', expected).groups()
+        known = prepare(code)
         with self.assertRaises(getattr(spareskept.errors, kind)) as caught:
-            run_example(code)
+            eval(code[-1], known)
         self.assertIs(caught.exception.__class__, getattr(spareskept.errors, kind))
         if attribute:
             self.assertEqual(repr(getattr(caught.exception, attribute)), value)
 
     def test_examples(self):
         examples = read_examples()
-        self.assertEqual(len(examples), 57)
+        self.assertEqual(len(examples), 76)
         for code, expected in examples:
             with self.subTest(code=code):
                 self.assertTrue(code and expected)
                 if expected.startswith('raises '):
                     self.check_error(code, expected)
                 else:
-                    self.assertEqual(repr(run_example(code)), expected)
+                    self.assertEqual(repr(eval(code[-1], prepare(code))), expected)
 
 
 if __name__ == '__main__':

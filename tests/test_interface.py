@@ -55,6 +55,34 @@ INTERFACE = {
         'depth_certificate(rowset, query, name, *, budget=0)',
         'is_depth_certificate(rowset, query, name, value, *, budget=0)',
     ),
+    'spareskept.deletions.exclusion': ('exclusion_set(rowset, query, names)',),
+    'spareskept.deletions.outcomes': (
+        'possible_outcomes(rowset, query, *, budget=0)', 'are_possible_outcomes(rowset, query, value, *, budget=0)',
+        'robust_names(rowset, query, *, budget=0)',
+    ),
+    'spareskept.expiry.durable': (
+        'live_rows(rowset, now)', 'surviving_rows(rowset, name)', 'final_depth(rowset, query, name)',
+        'durable_kernel(rowset, query, *, budget=0)', 'depth_profile(rowset, query, name)',
+        'entry_time(rowset, query, name, *, budget=0)', 'selection_starts(rowset, query, *, deleted=())',
+    ),
+}
+
+CLASSES = {
+    'spareskept.stores.store': ('KernelStore(query, budget, *, width=4, rowset=(), now=0)', (
+        'query(self)', 'budget(self)', 'now(self)', 'rows(self)', 'select(self)', '__len__(self)', '__str__(self)',
+        '__eq__(self, other)', 'insert(self, row)', 'delete(self, name)', 'advance(self, now)',
+        'select_without(self, names)', 'with_budget(self, budget)', 'merged(self, other)',
+    )),
+}
+
+CONSTANTS = {
+    'spareskept.rows.rowsets': {
+        'MAX_ROWS': 60, 'MAX_WIDTH': 4, 'MAX_COST': 10 ** 6, 'MAX_VALUE': 10 ** 9, 'MAX_EXPIRY': 10 ** 9},
+    'spareskept.tables.tables': {'MAX_NAMES': 6},
+    'spareskept.queries.forms': {'MAX_NESTING': 4},
+    'spareskept.depths.kernels': {'MAX_BUDGET': 10 ** 9},
+    'spareskept.deletions.outcomes': {'MAX_OUTCOMES': 400},
+    'spareskept.expiry.durable': {'MAX_TIME': 10 ** 9},
 }
 
 
@@ -68,6 +96,23 @@ class InterfaceTest(unittest.TestCase):
                     function = getattr(module, name)
                     self.assertEqual(name + str(inspect.signature(function)), line)
                     self.assertEqual(function.__module__, module_name)
+
+    def test_classes(self):
+        for module_name, (line, methods) in CLASSES.items():
+            name = line.partition('(')[0]
+            listed = getattr(importlib.import_module(module_name), name)
+            self.assertEqual(name + str(inspect.signature(listed)), line)
+            self.assertEqual(listed.__module__, module_name)
+            for method in methods:
+                with self.subTest(method=method):
+                    defined = vars(listed)[method.partition('(')[0]]
+                    self.assertEqual(defined.__name__ + str(inspect.signature(defined)), method)
+
+    def test_constants(self):
+        for module_name, constants in CONSTANTS.items():
+            module = importlib.import_module(module_name)
+            for name, value in constants.items():
+                self.assertEqual(getattr(module, name), value)
 
 
 if __name__ == '__main__':

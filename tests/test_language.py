@@ -20,6 +20,7 @@ BARRED_NODES = (
     ast.AnnAssign, ast.Starred, ast.Yield, ast.YieldFrom, ast.Assert,
 )
 BARRED_WORDS = re.compile(r'\b(typing|enum|Enum|Flag|Generic|Protocol|ABC|mro|elements|open|input|law|type)\b')
+SPECIAL_METHODS = {'__init__', '__len__', '__str__', '__eq__'}
 LIBRARY = {'heapq', 'math', 'itertools', 'collections'}
 
 
@@ -109,9 +110,22 @@ class SyntaxTest(unittest.TestCase):
                 if isinstance(node, ast.FunctionDef):
                     self.assertLessEqual(node.end_lineno - node.lineno + 1, 40, (path, node.name))
                     self.assertEqual(node.decorator_list, [], (path, node.name))
-                    self.assertTrue(ast.get_docstring(node) or node.name == '__init__', (path, node.name))
+                    self.assertTrue(ast.get_docstring(node) or node.name in SPECIAL_METHODS, (path, node.name))
                 if isinstance(node, ast.Compare) and any(isinstance(sign, (ast.Is, ast.IsNot)) for sign in node.ops):
                     self.assertIsInstance(node.comparators[0], ast.Constant, (path, node.lineno))
+
+    def test_classes(self):
+        for path, tree in trees():
+            for owner in tree.body:
+                if isinstance(owner, ast.ClassDef):
+                    methods = [node.name for node in owner.body if isinstance(node, ast.FunctionDef)]
+                    self.assertEqual(len(methods), len(set(methods)), (path, owner.name))
+                    for node in ast.walk(owner):
+                        if isinstance(node, ast.Attribute) and isinstance(node.ctx, ast.Store):
+                            self.assertNotIn(node.attr, methods, (path, owner.name))
+                        if isinstance(node, ast.FunctionDef) and node.name == '__eq__':
+                            first = f'if not isinstance(other, {owner.name}):\n    return False'
+                            self.assertEqual(ast.unparse(node.body[0]), first, path)
 
     def test_iterations(self):
         for path, tree in trees():
@@ -121,7 +135,7 @@ class SyntaxTest(unittest.TestCase):
     def test_names(self):
         for path, tree in trees():
             imported = imported_names(tree)
-            for name in sorted(set(bound_names(tree)) - {'_', '__init__'}):
+            for name in sorted(set(bound_names(tree)) - {'_'} - SPECIAL_METHODS):
                 self.assertRegex(name, r'^_?[A-Za-z][A-Za-z0-9_]*$', path)
                 self.assertFalse(hasattr(builtins, name), (path, name))
                 self.assertNotIn(name, imported, path)

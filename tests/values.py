@@ -111,11 +111,12 @@ def random_source(*parts):
     return random.Random(' '.join(map(str, parts)))
 
 
-def random_rowset(seed, count, width, *, low=0, high=3, cost=5):
-    """Return a rowset that depends on the arguments only."""
+def random_rowset(seed, count, width, *, low=0, high=3, cost=5, expiry=1):
+    """Return a rowset that depends on the arguments only; its rows expire from time 1 to the expiry."""
     source = random_source(seed, count, width)
     return tuple(
-        (name_of(number), source.randint(1, cost), tuple(source.randint(low, high) for _ in range(width)), 1)
+        (name_of(number), source.randint(1, cost), tuple(source.randint(low, high) for _ in range(width)),
+         1 if expiry == 1 else source.randint(1, expiry))
         for number in range(count))
 
 

@@ -16,6 +16,7 @@ LETTERS = "abcdefghijklmnopqrstuvwxyz"
 NAME = 0
 COST = 1
 VALUES = 2
+EXPIRY = 3
 
 
 def is_name(value):
@@ -64,6 +65,11 @@ def is_rowset(value):
     if not is_tuple_between(value, 0, MAX_ROWS) or not are_rows_of_one_width(value):
         return False
     return is_ascending(names_of(value))
+
+
+def is_rowset_of_width(value, width):
+    """Return whether the value is a rowset of this width; the empty rowset has every width."""
+    return is_rowset(value) and all([len(row[VALUES]) == width for row in value])
 
 
 def names_of(rows):

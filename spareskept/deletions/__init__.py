@@ -1,0 +1,1 @@
+"""What bounded deletions can do to a selection."""

@@ -1,0 +1,1 @@
+"""Stores of the rows that must be kept."""
