@@ -42,7 +42,7 @@ class ExamplesTest(unittest.TestCase):
 
     def test_examples(self):
         examples = read_examples()
-        self.assertEqual(len(examples), 76)
+        self.assertEqual(len(examples), 99)
         for code, expected in examples:
             with self.subTest(code=code):
                 self.assertTrue(code and expected)

@@ -65,6 +65,15 @@ INTERFACE = {
         'durable_kernel(rowset, query, *, budget=0)', 'depth_profile(rowset, query, name)',
         'entry_time(rowset, query, name, *, budget=0)', 'selection_starts(rowset, query, *, deleted=())',
     ),
+    'spareskept.stores.trees': (
+        'is_merge_tree(value)', 'tree_rows(tree)', 'root_kernel(tree, query, *, budget=0)',
+        'transfer_count(tree, query, *, budget=0)', 'find_distinction(one, other, query, *, budget=0)',
+        'is_distinction(one, other, query, value, *, budget=0)',
+    ),
+    'spareskept.text.formats': (
+        'format_row(row)', 'format_rowset(rowset)', 'format_query(query, *, width=4)', 'parse_row(text)',
+        'parse_rowset(text)', 'parse_query(text, *, width=4)',
+    ),
 }
 
 CLASSES = {
@@ -72,6 +81,21 @@ CLASSES = {
         'query(self)', 'budget(self)', 'now(self)', 'rows(self)', 'select(self)', '__len__(self)', '__str__(self)',
         '__eq__(self, other)', 'insert(self, row)', 'delete(self, name)', 'advance(self, now)',
         'select_without(self, names)', 'with_budget(self, budget)', 'merged(self, other)',
+    )),
+    'spareskept.replicas.replica': ('Replica(query, budget, *, width=4)', (
+        'rows(self)', 'deleted(self)', '__len__(self)', '__str__(self)', '__eq__(self, other)', 'receive(self, row)',
+        'receive_deletion(self, name)', 'message(self)', 'receive_message(self, message)', 'deleted_cost(self, now)',
+        'is_reliable(self, now)', 'select(self, now)',
+    )),
+    'spareskept.service.service': ('KernelService(query, budget, *, width=4)', (
+        'rows(self)', 'budget(self)', 'now(self)', 'rebuilds(self)', 'spent(self)', 'log(self)', '__len__(self)',
+        '__str__(self)', '__eq__(self, other)', 'insert(self, row)', 'delete(self, name)', 'advance(self, now)',
+        'apply(self, operation)', 'apply_all(self, operations)', 'undo(self)', 'select(self)',
+        'select_without(self, names)', 'cached_rows(self)', 'remaining(self)',
+    )),
+    'spareskept.text.shell': ('Shell()', (
+        'service(self)', '__len__(self)', '__str__(self)', '__eq__(self, other)', 'run(self, command)',
+        'run_all(self, commands)',
     )),
 }
 

@@ -60,6 +60,11 @@ def have_one_width(rows):
     return all([len(row[VALUES]) == len(rows[0][VALUES]) for row in rows])
 
 
+def width_of(rows):
+    """Return the width of a rowset of these rows."""
+    return len(rows[0][VALUES]) if rows else MAX_WIDTH
+
+
 def is_rowset(value):
     """Return whether the value is a rowset."""
     if not is_tuple_between(value, 0, MAX_ROWS) or not are_rows_of_one_width(value):
@@ -132,7 +137,7 @@ def make_rowset(rows):
 def rowset_width(rowset):
     """Return the width of the rowset."""
     check_rowset(rowset)
-    return len(rowset[0][VALUES]) if rowset else MAX_WIDTH
+    return width_of(rowset)
 
 
 def row_names(rowset):
@@ -174,13 +179,33 @@ def union_rowsets(rowsets):
     rows = [row for rowset in rowsets for row in rowset]
     if not have_one_width(rows):
         raise InvalidRowset("two rowsets have different widths")
+    check_conflicts(rows)
+    united = different_rows(rows)
+    if len(united) > MAX_ROWS:
+        raise TooMany(MAX_ROWS)
+    return united
+
+
+def have_union(rows):
+    """Return whether one rowset can hold all of the rows."""
+    return have_one_width(rows) and not conflicting_names(rows) and len(different_rows(rows)) <= MAX_ROWS
+
+
+def different_rows(rows):
+    """Return a tuple of the rows in ascending order, each of them once."""
+    return tuple(sorted(set(rows)))
+
+
+def conflicting_names(rows):
+    """Return a list of names that belong to two different rows."""
     found = {}
-    conflicts = []
     for row in rows:
-        if found.setdefault(row[NAME], row) != row:
-            conflicts.append(row[NAME])
+        found.setdefault(row[NAME], row)
+    return [row[NAME] for row in rows if found[row[NAME]] != row]
+
+
+def check_conflicts(rows):
+    """Raise NameConflict, with the least name, if a name belongs to two different rows."""
+    conflicts = conflicting_names(rows)
     if conflicts:
         raise NameConflict(min(conflicts))
-    if len(found) > MAX_ROWS:
-        raise TooMany(MAX_ROWS)
-    return tuple([found[name] for name in sorted(found)])

@@ -1,0 +1,1 @@
+"""Replicas that exchange what they know."""

@@ -1,0 +1,1 @@
+"""A service that answers from a kernel of its archive."""

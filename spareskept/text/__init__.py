@@ -1,0 +1,1 @@
+"""Text forms, and a shell that reads them."""
