@@ -2,7 +2,7 @@
 
 import unittest
 
-from spareskept.errors import InvalidNumber, InvalidQuery, InvalidRow, InvalidRowset, ParseError
+from spareskept.errors import InvalidQuery, InvalidRow, InvalidRowset, ParseError
 from spareskept.queries.forms import is_query
 from spareskept.rows.rowsets import is_row
 from spareskept.text.formats import format_query, format_row, format_rowset, parse_query, parse_row, parse_rowset

@@ -127,6 +127,16 @@ class SyntaxTest(unittest.TestCase):
                             first = f'if not isinstance(other, {owner.name}):\n    return False'
                             self.assertEqual(ast.unparse(node.body[0]), first, path)
 
+    def test_special_methods(self):
+        for path, tree in trees():
+            for node in ast.walk(tree):
+                if isinstance(node, ast.FunctionDef) and node.name in ('__len__', '__str__'):
+                    returned = [part.value for part in ast.walk(node) if isinstance(part, ast.Return)]
+                    self.assertTrue(returned and isinstance(node.body[-1], ast.Return), (path, node.name))
+                    for value in returned:
+                        shown = ast.unparse(value)
+                        self.assertRegex(shown, r'^len\(' if node.name == '__len__' else "^f['\"]", path)
+
     def test_iterations(self):
         for path, tree in trees():
             for node in ast.walk(tree):

@@ -127,15 +127,17 @@ class KernelService:
 
     def _snapshot(self):
         """Return all that the operations and rebuilding the cache change."""
-        # The cache itself goes on changing, so its rows and its budget are kept instead.
+        # The cache itself goes on changing, so its rows and its budget are kept instead. The log only
+        # grows until it is cut off again, so its length is enough.
         cached = None if self._cache is None else (self._cache.rows(), self._cache.budget())
-        return (self._archive, self._now, self._rebuilds, self._spent, self._log, cached)
+        return (self._archive, self._now, self._rebuilds, self._spent, len(self._log), cached)
 
     def undo(self):
         """Undo the most recent operation or group that has not been undone."""
         if not self._earlier:
             raise InvalidOperation("there is nothing to undo")
-        self._archive, self._now, self._rebuilds, self._spent, self._log, cached = self._earlier.pop()
+        self._archive, self._now, self._rebuilds, self._spent, count, cached = self._earlier.pop()
+        self._log = self._log[:count]
         self._cache = None if cached is None else self._new_cache(cached[0], cached[1])
 
     def _new_cache(self, rows, budget):
